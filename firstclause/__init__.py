@@ -1,0 +1,1 @@
+"""How many values of each size each clause takes, which, and tables that show it."""
