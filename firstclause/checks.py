@@ -4,7 +4,7 @@ A function checks its arguments one by one in the order of its parameters; a che
 """
 
 from firstclause.errors import InvalidClauses, InvalidKind, InvalidKinds, InvalidNumber, InvalidPattern
-from firstclause.errors import InvalidSize, InvalidValue
+from firstclause.errors import InvalidPosition, InvalidSize, InvalidValue
 from firstclause.forms import is_count, is_sound
 from firstclause.kinds import is_kind, is_kinds
 from firstclause.patterns import is_clauses, is_pattern
@@ -47,3 +47,16 @@ def check_clauses(kinds, kind, clauses):
     """Check a list of clauses of a kind."""
     if not is_clauses(kinds, kind, clauses):
         raise InvalidClauses(clauses)
+
+
+def check_lists(kinds, kind, lists):
+    """Check kinds, a kind and lists of clauses of it."""
+    check_kind(kinds, kind)
+    for clauses in lists:
+        check_clauses(kinds, kind, clauses)
+
+
+def check_position(clauses, at):
+    """Check the position of a clause."""
+    if not is_count(at) or at >= len(clauses):
+        raise InvalidPosition(at)

@@ -1,6 +1,6 @@
 """Patterns and lists of clauses: what they fit, and which clause takes a value."""
 
-from firstclause.checks import check_clauses, check_kind, check_pattern, check_value
+from firstclause.checks import check_kind, check_lists, check_pattern, check_value
 from firstclause.patterns import first_fitting, pattern_fits
 
 
@@ -14,8 +14,7 @@ def fits(kinds, kind, pattern, value):
 
 def taker(kinds, kind, clauses, value):
     """The position of the clause that takes a value, or None if no clause does."""
-    check_kind(kinds, kind)
-    check_clauses(kinds, kind, clauses)
+    check_lists(kinds, kind, [clauses])
     check_value(kinds, kind, value)
     return first_fitting(clauses, value)
 

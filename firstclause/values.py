@@ -1,8 +1,11 @@
 """Values of kinds: their sizes, how many there are of each size, and which."""
 
+from firstclause.catalog import Catalog
 from firstclause.checks import check_kind, check_number, check_size, check_value
 from firstclause.forms import is_sound
-from firstclause.sizes import Sizes
+from firstclause.picks import number_of
+from firstclause.reach import Reach
+from firstclause.search import count_in, nth_in
 from firstclause.trees import size_of_tree, values_within
 
 
@@ -23,7 +26,8 @@ def count_values(kinds, kind, size):
     """How many values of a kind have a size."""
     check_kind(kinds, kind)
     check_size(size)
-    return Sizes(kinds, size).counts[kind][size]
+    reach = Reach(Catalog(kinds))
+    return count_in(reach, reach.states_of(kind), size)
 
 
 def nth_value(kinds, kind, size, number):
@@ -31,14 +35,14 @@ def nth_value(kinds, kind, size, number):
     check_kind(kinds, kind)
     check_size(size)
     check_number(number)
-    sizes = Sizes(kinds, size)
-    if number >= sizes.counts[kind][size]:
-        return None
-    return sizes.value_at(kind, size, number)
+    reach = Reach(Catalog(kinds))
+    return nth_in(reach, kind, reach.states_of(kind), size, number)
 
 
 def place(kinds, kind, value):
     """The number of a value among those of its size in their order."""
     check_kind(kinds, kind)
     check_value(kinds, kind, value)
-    return Sizes(kinds, size_of_tree(value)).place_of(kind, value)
+    reach = Reach(Catalog(kinds))
+    reach.count_to(size_of_tree(value))
+    return number_of(reach, kind, value)

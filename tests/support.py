@@ -3,11 +3,18 @@
 from functools import cmp_to_key
 from itertools import product
 
+# The kinds and clauses of the examples of the document.
 GARDEN = {
     "tree": ("makers", [("leaf", ["small"]), ("fork", ["tree", "tree"])]),
     "small": ("numbers", 1, 3),
     "list": ("rows", "small"),
 }
+DEEP = ("maker", "fork", [("maker", "fork", [None, None]), None])
+GARDEN_CLAUSES = [
+    (DEEP, "deep"),
+    (("maker", "fork", [None, ("maker", "leaf", [("from", 2, None)])]), "right"),
+    (("maker", "leaf", [None]), "leaf"),
+]
 # Each of the four forms, holding one another and themselves, with parts and cells of unlike sizes.
 MIXED = {
     "term": ("makers", [("zip", []), ("call", ["word", "args"]), ("add", ["term", "num"]), ("end", [])]),

@@ -4,17 +4,12 @@ import unittest
 
 from firstclause.clauses import fits, label, taker
 from firstclause.errors import InvalidClauses, InvalidPattern
-from tests.support import GARDEN, GRID, LONG, MIXED, NEST, assert_raises, assert_same, values_of_size
+from tests.support import GARDEN, GARDEN_CLAUSES, GRID, LONG, MIXED, NEST, assert_raises, assert_same, values_of_size
 
 
 class Examples(unittest.TestCase):
     def test_examples_of_the_document(self):
-        kinds = {"tree": ("makers", [("leaf", ["small"]), ("fork", ["tree", "tree"])]),
-                 "small": ("numbers", 1, 3), "list": ("rows", "small")}
-        deep = ("maker", "fork", [("maker", "fork", [None, None]), None])
-        clauses = [(deep, "deep"),
-                   (("maker", "fork", [None, ("maker", "leaf", [("from", 2, None)])]), "right"),
-                   (("maker", "leaf", [None]), "leaf")]
+        kinds, clauses = GARDEN, GARDEN_CLAUSES
         values = (("leaf", 2), ("fork", ("leaf", 1), ("leaf", 1)), ("fork", ("leaf", 1), ("leaf", 2)))
         assert_same(self, [label(kinds, "tree", clauses, value) for value in values], ["leaf", None, "right"])
         ends = ("gap", [("from", 1, 1)], [("from", 3, None)])
@@ -52,8 +47,9 @@ class Patterns(unittest.TestCase):
                                             ("from", 5, -5), ("from", 10 ** 29, 10 ** 29), ("or", [None, None])])
         self.assert_no_patterns(MIXED, "num", [
             ("from",), ("from", 1), ("from", 1, 2, 3), ["from", 1, 2], ("from", True, 2), ("from", 0, False),
-            ("from", "0", 1), ("from", 0, "1"), ("from", [], 1), ("from", 1, {}), ("from", (1,), None), ("from", [1, 2]),
-            ("From", 1, 2), ("word", "x"), ("maker", "zip", []), ("row", []), ("gap", [], []), (1, 2, 3), 1])
+            ("from", "0", 1), ("from", 0, "1"), ("from", [], 1), ("from", 1, {}), ("from", (1,), None),
+            ("from", [1, 2]), ("From", 1, 2), ("word", "x"), ("maker", "zip", []), ("row", []), ("gap", [], []),
+            (1, 2, 3), 1])
 
     def test_patterns_of_words(self):
         self.assert_patterns(MIXED, "word", [None, ("word", "x"), ("or", [("word", "y"), ("or", [("word", "x")])])])

@@ -4,9 +4,10 @@ import inspect
 import unittest
 from copy import deepcopy
 
-from firstclause import clauses, values
-from firstclause.errors import InvalidClauses, InvalidKind, InvalidKinds, InvalidNumber, InvalidPattern, InvalidSize
-from firstclause.errors import InvalidValue
+from firstclause import clauses, least, sheets, tables, values
+from firstclause.errors import InvalidClauses, InvalidKind, InvalidKinds, InvalidNumber, InvalidPattern
+from firstclause.errors import InvalidPosition, InvalidSize, InvalidValue
+from tests.plain import turned
 from tests.support import GARDEN, MIXED, ODD_OBJECTS, assert_each_wrong, assert_same
 
 VALUES = {
@@ -21,12 +22,28 @@ CLAUSES = {
     "taker": ["kinds", "kind", "clauses", "value"],
     "label": ["kinds", "kind", "clauses", "value"],
 }
+LEAST = {
+    "least_missing": ["kinds", "kind", "clauses"],
+    "least_taken": ["kinds", "kind", "clauses", "at"],
+    "unreached": ["kinds", "kind", "clauses"],
+    "total_missing": ["kinds", "kind", "clauses"],
+    "total_taken": ["kinds", "kind", "clauses", "at"],
+    "greater_missing": ["kinds", "kind", "clauses", "size"],
+    "greater_taken": ["kinds", "kind", "clauses", "at", "size"],
+}
+TABLES = {"table": ["kinds", "kind", "clauses"], "check_table": ["kinds", "kind", "clauses", "value"]}
+SHEETS = {"sheet": ["kinds", "kind", "one", "other"], "check_sheet": ["kinds", "kind", "one", "other", "value"]}
+MODULES = ((values, VALUES), (clauses, CLAUSES), (least, LEAST), (tables, TABLES), (sheets, SHEETS))
+# Functions whose last argument may be any object.
+ASKED = (values.is_value, tables.check_table, sheets.check_sheet)
 LEAF = ("maker", "leaf", [("from", 2, None)])
 GOOD = {
     "kinds": GARDEN, "kind": "tree", "value": ("fork", ("leaf", 1), ("leaf", 2)), "size": 5, "number": 3,
-    "pattern": ("maker", "fork", [None, LEAF]), "clauses": [(LEAF, "leaf"), (None, "rest")],
+    "pattern": ("maker", "fork", [None, LEAF]), "clauses": [(LEAF, "leaf"), (None, "rest")], "at": 0,
+    "one": [(LEAF, "leaf"), (None, "rest")], "other": [(("or", [LEAF]), "leaf"), (None, "rest")],
 }
 NO_COUNTS = [None, True, False, -1, -10 ** 29, "", "1", [], [1], (), (1,), {}, {1: 1}, [[{}]]]
+NO_CLAUSES = [odd for odd in ODD_OBJECTS if odd != []] + [[(None, "A")], ((None, "a"),), [[None, "a"]]]
 BAD = {
     "kinds": ODD_OBJECTS + [{"tree": ("makers", [("m", ["tree"])])}, {"tree": ("numbers", 2, 1)}],
     "kind": [odd for odd in ODD_OBJECTS if odd != "tree"] + ["fork", ["list"], {"list": 1}],
@@ -36,27 +53,32 @@ BAD = {
     "number": NO_COUNTS,
     "pattern": [odd for odd in ODD_OBJECTS if odd not in (None, ("or", [None]))] + [
         ("maker", "leaf", (None,)), ("or", []), ("row", []), ("maker", "leaf", [{}])],
-    "clauses": [odd for odd in ODD_OBJECTS if odd != []] + [[(None, "A")], ((None, "a"),), [[None, "a"]]],
+    "clauses": NO_CLAUSES,
+    "one": NO_CLAUSES,
+    "other": NO_CLAUSES,
+    "at": NO_COUNTS + [2, 10 ** 20],
 }
 ERRORS = {
     "kinds": InvalidKinds, "kind": InvalidKind, "value": InvalidValue, "size": InvalidSize, "number": InvalidNumber,
-    "pattern": InvalidPattern, "clauses": InvalidClauses,
+    "pattern": InvalidPattern, "clauses": InvalidClauses, "one": InvalidClauses, "other": InvalidClauses,
+    "at": InvalidPosition,
 }
 RESULTS = {
     "is_value": True, "size_of": 5, "count_values": 9, "nth_value": ("fork", ("leaf", 2), ("leaf", 1)), "place": 1,
-    "fits": True, "taker": 1, "label": "rest",
+    "fits": True, "taker": 1, "label": "rest", "least_missing": None, "least_taken": ("leaf", 2), "unreached": [],
+    "total_missing": 0, "total_taken": 2, "greater_missing": None, "greater_taken": None,
+    "check_table": False, "check_sheet": False,
 }
 
 
 def functions():
     """Each function of the interface that there is, with its parameters."""
-    return [(getattr(module, name), listed[name])
-            for module, listed in ((values, VALUES), (clauses, CLAUSES)) for name in listed]
+    return [(getattr(module, name), listed[name]) for module, listed in MODULES for name in listed]
 
 
 class Arguments(unittest.TestCase):
     def test_each_function_is_defined_in_its_module_with_its_parameters(self):
-        for module, listed in ((values, VALUES), (clauses, CLAUSES)):
+        for module, listed in MODULES:
             for name, parameters in listed.items():
                 function = getattr(module, name)
                 self.assertEqual((function.__module__, function.__name__), (module.__name__, name))
@@ -64,9 +86,10 @@ class Arguments(unittest.TestCase):
 
     def test_by_position_and_by_name(self):
         for function, parameters in functions():
-            expected = RESULTS[function.__name__]
-            assert_same(self, function(*[GOOD[one] for one in parameters]), expected)
-            assert_same(self, function(**{one: GOOD[one] for one in reversed(parameters)}), expected)
+            found = function(*[GOOD[one] for one in parameters])
+            # Any table or sheet may be told.
+            assert_same(self, found, RESULTS.get(function.__name__, found))
+            assert_same(self, function(**{one: GOOD[one] for one in reversed(parameters)}), found)
 
     def test_arguments_are_not_changed(self):
         good = deepcopy(GOOD)
@@ -81,6 +104,15 @@ class Arguments(unittest.TestCase):
             kept = deepcopy(first)
             spoil(first)
             assert_same(self, values.nth_value(MIXED, kind, size, number), kept)
+
+    def test_equal_calls_return_equal_results(self):
+        for function, parameters in functions():
+            good = [GOOD[one] for one in parameters]
+            found = function(*good)
+            again = function(*[turned(one) if isinstance(one, dict) else deepcopy(one) for one in good])
+            self.assertEqual(again, found)
+            if isinstance(found, dict):
+                assert_same(self, [again[kind] for kind in GARDEN], [found[kind] for kind in GARDEN])
 
     def test_changing_an_argument_later_changes_nothing_returned_later(self):
         kinds, listed = deepcopy(GARDEN), deepcopy(GOOD["clauses"])
@@ -103,17 +135,29 @@ def spoil(value):
         value.append(None)
 
 
+def with_last(function, last):
+    """A function that is passed an argument behind those that it gets."""
+    def called(*arguments):
+        return function(*arguments, last)
+
+    return called
+
+
 class WrongArguments(unittest.TestCase):
     def test_each_argument_wrong_alone_and_with_wrong_ones_behind(self):
         for function, parameters in functions():
-            if function is not values.is_value:
+            if function not in ASKED:
                 assert_each_wrong(self, function, [(GOOD[one], BAD[one], ERRORS[one]) for one in parameters])
 
-    def test_is_value_takes_any_object_as_a_value(self):
-        listed = [(GOOD[one], BAD[one], ERRORS[one]) for one in ("kinds", "kind")]
-        for odd in BAD["value"]:
-            self.assertIs(values.is_value(GARDEN, "tree", odd), False)
-            assert_each_wrong(self, lambda kinds, kind, odd=odd: values.is_value(kinds, kind, odd), listed)
+    def test_any_object_may_be_asked_for(self):
+        for function, parameters in functions():
+            if function in ASKED:
+                for odd in BAD["value"]:
+                    good = [GOOD[one] for one in parameters[:-1]]
+                    self.assertIs(function(*good, odd), False)
+                listed = [(GOOD[one], BAD[one], ERRORS[one]) for one in parameters[:-1]]
+                for odd in (None, {}, [{}], GOOD["value"]):
+                    assert_each_wrong(self, with_last(function, odd), listed)
 
     def test_names_of_kinds_that_are_no_keys_of_these(self):
         for function, parameters in functions():
@@ -132,6 +176,35 @@ class Limits(unittest.TestCase):
         self.assertIsNone(values.nth_value(kinds, "b", 3, many * many))
         assert_same(self, values.place(kinds, "b", ("m", 0, 0)), many * many // 2)
         self.assertIs(clauses.fits(kinds, "a", ("from", None, -10 ** 30), 0), False)
+
+    def test_lists_of_many_patterns(self):
+        kinds = {"row": ("rows", "cell"), "cell": ("numbers", 0, 10 ** 20)}
+        cells = [("from", at * 10 ** 18, (at + 20) * 10 ** 18) for at in range(60)]
+        gaps = [("gap", cells[at:at + 2], cells[at + 2:at + 3]) for at in range(0, 18, 3)]
+        rows = [("row", cells[at:at + 3]) for at in range(18, 60, 3)]
+        some = [(("or", gaps[:3] + rows[:5]), "a"), (("or", gaps[3:] + rows[5:8]), "b"), (("or", rows[8:]), "c")]
+        found = [least.least_missing(kinds, "row", some), least.greater_missing(kinds, "row", some, 12)]
+        assert_same(self, found, [[], [0] * 12])
+        assert_same(self, least.unreached(kinds, "row", some), [])
+        whole = some + [(None, "d")]
+        self.assertIs(tables.check_table(kinds, "row", whole, tables.table(kinds, "row", whole)), True)
+        other = [some[0], (("or", rows[5:8] + gaps[3:]), "b"), *whole[2:], (None, "e")]
+        told = sheets.sheet(kinds, "row", whole, other)
+        self.assertIs(sheets.check_sheet(kinds, "row", whole, other, told), True)
+
+    def test_tables_and_sheets_of_many_lines(self):
+        kinds = {**GARDEN, "word": ("words", ["x", "y"])}
+        more = {"tree": [("maker", "leaf", [("from", at, None)]) for at in range(39)],
+                "small": [("from", None, at) for at in range(39)], "word": [("or", [None] * at) for at in range(1, 40)],
+                "list": [("row", [("from", None, at)]) for at in range(39)]}
+        lines = {kind: [[None]] + [[None] + more[kind][at % 39:] + more[kind][:at % 39] for at in range(99)]
+                 for kind in kinds}
+        self.assertIs(tables.check_table(kinds, "tree", [(None, "a")], lines), True)
+        pages = {kind: [[(pattern, True) for pattern in line] for line in lines[kind]] for kind in kinds}
+        self.assertIs(sheets.check_sheet(kinds, "tree", [(None, "a")], [(None, "a")], pages), True)
+        pages["tree"].append([])
+        self.assertIs(sheets.check_sheet(kinds, "tree", [(("or", [None]), "a")], [(None, "a")], pages), True)
+        self.assertIs(tables.check_table(kinds, "tree", [(None, "a")], {**lines, "tree": lines["tree"] + [[]]}), False)
 
     def test_beyond_the_limits_no_error_is_raised(self):
         kinds = {"abcde"[at]: ("makers", [("m" + "abcdefg"[own], ["abcde"[at]] * own) for own in range(6)])

@@ -16,8 +16,7 @@ def catalan(number):
 
 class Examples(unittest.TestCase):
     def test_examples_of_the_document(self):
-        kinds = {"tree": ("makers", [("leaf", ["small"]), ("fork", ["tree", "tree"])]),
-                 "small": ("numbers", 1, 3), "list": ("rows", "small")}
+        kinds = GARDEN
         assert_same(self, [is_value(kinds, "tree", ("fork", ("leaf", 1), ("leaf", 4))),
                            size_of(kinds, "tree", ("fork", ("leaf", 1), ("leaf", 3))),
                            size_of(kinds, "list", [])], [False, 5, 1])
