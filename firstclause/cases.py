@@ -19,10 +19,21 @@ class Cases:
         """The states whose values the clause at a position of the first list takes, or none of it if it is None."""
         return [state for state in self.states if first_met(self.heads[0], state.mask) == at]
 
-    def labels(self, state):
-        """The label that each list gives the values of a state, or None if they are missing in it."""
-        takers = [first_met(bits, state.mask) for bits in self.heads]
-        return [None if at is None else clauses[at][1] for clauses, at in zip(self.lists, takers)]
+    def parted(self):
+        """The states to whose values the lists, two of them, give unlike labels."""
+        return [state for state in self.states if self.label(0, state) != self.label(1, state)]
+
+    def label(self, number, state):
+        """The label that the list with a number gives the values of a state, or None if they are missing in it."""
+        at = first_met(self.heads[number], state.mask)
+        return None if at is None else self.lists[number][at][1]
+
+    def met(self):
+        """The positions of the clauses of the first list that fit a value, ascending, each list that there is once."""
+        found = {}
+        for state in self.states:
+            found[tuple([at for at, bit in enumerate(self.heads[0]) if bit & state.mask])] = True
+        return [list(positions) for positions in found]
 
 
 def bits_of(catalog, kind, clauses):

@@ -3,11 +3,11 @@
 A function checks its arguments one by one in the order of its parameters; a check relies on those ahead of it.
 """
 
-from firstclause.errors import InvalidClauses, InvalidKind, InvalidKinds, InvalidNumber, InvalidPattern
-from firstclause.errors import InvalidPosition, InvalidSize, InvalidValue
+from firstclause.errors import InvalidClause, InvalidClauses, InvalidKind, InvalidKinds, InvalidNumber
+from firstclause.errors import InvalidPattern, InvalidPosition, InvalidSize, InvalidValue
 from firstclause.forms import is_count, is_sound
 from firstclause.kinds import is_kind, is_kinds
-from firstclause.patterns import is_clauses, is_pattern
+from firstclause.patterns import is_clause, is_clauses, is_pattern
 from firstclause.trees import values_within
 
 
@@ -43,6 +43,12 @@ def check_pattern(kinds, kind, pattern):
         raise InvalidPattern(pattern)
 
 
+def check_clause(kinds, kind, clause):
+    """Check a clause of a kind."""
+    if not is_clause(kinds, kind, clause):
+        raise InvalidClause(clause)
+
+
 def check_clauses(kinds, kind, clauses):
     """Check a list of clauses of a kind."""
     if not is_clauses(kinds, kind, clauses):
@@ -56,7 +62,7 @@ def check_lists(kinds, kind, lists):
         check_clauses(kinds, kind, clauses)
 
 
-def check_position(clauses, at):
-    """Check the position of a clause."""
-    if not is_count(at) or at >= len(clauses):
+def check_position(many, at):
+    """Check a position where there are so many of them."""
+    if not is_count(at) or at >= many:
         raise InvalidPosition(at)

@@ -1,4 +1,4 @@
-"""What whole numbers, counts and names are, and whether nested things have the right form."""
+"""What whole numbers, counts and names are, whether nested things have the right form, and copies of them."""
 
 
 def is_whole(thing):
@@ -44,3 +44,14 @@ def is_sound(kinds, kind, thing, within):
             return False
         waiting.extend(held)
     return True
+
+
+def copied(thing):
+    """A copy of an object, all lists and dictionaries within it new."""
+    if isinstance(thing, list):
+        return [copied(inner) for inner in thing]
+    if isinstance(thing, tuple):
+        return tuple([copied(inner) for inner in thing])
+    if isinstance(thing, dict):
+        return {key: copied(inner) for key, inner in thing.items()}
+    return thing

@@ -14,7 +14,7 @@ def least_missing(kinds, kind, clauses):
 def least_taken(kinds, kind, clauses, at):
     """The first value that the clause at a position takes, or None if it takes none."""
     check_lists(kinds, kind, [clauses])
-    check_position(clauses, at)
+    check_position(len(clauses), at)
     return least_beyond(Cases(kinds, kind, [clauses]), at, 0)
 
 
@@ -34,7 +34,7 @@ def total_missing(kinds, kind, clauses):
 def total_taken(kinds, kind, clauses, at):
     """How many values the clause at a position takes, or None if they are endlessly many."""
     check_lists(kinds, kind, [clauses])
-    check_position(clauses, at)
+    check_position(len(clauses), at)
     return total_in(Cases(kinds, kind, [clauses]).taken(at))
 
 
@@ -48,7 +48,7 @@ def greater_missing(kinds, kind, clauses, size):
 def greater_taken(kinds, kind, clauses, at, size):
     """The first value greater than a size that the clause at a position takes, or None if it takes none."""
     check_lists(kinds, kind, [clauses])
-    check_position(clauses, at)
+    check_position(len(clauses), at)
     check_size(size)
     return least_beyond(Cases(kinds, kind, [clauses]), at, size)
 

@@ -12,11 +12,10 @@ def sheet(kinds, kind, one, other):
     """A sheet for two lists of clauses, or None if some value parts them."""
     check_lists(kinds, kind, [one, other])
     cases = Cases(kinds, kind, [one, other])
+    if cases.parted():
+        return None
     needs = Needs(cases.reach)
     for state in cases.states:
-        labels = cases.labels(state)
-        if labels[0] != labels[1]:
-            return None
         for bits in cases.heads:
             demand_taker(needs, state, bits)
     lines = needs.lines()

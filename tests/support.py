@@ -37,6 +37,8 @@ ODD_OBJECTS = [
     ({},), [None], (None,), {"a": []}, {(): {}}, {1: 2}, ["tree"], ("tree",), {"tree": None}, [1, [2, [3, {}]]],
     ("leaf", ["small"]), ("or", [None]), [("leaf", 1)],
 ]
+NO_COUNTS = [None, True, False, -1, -10 ** 29, "", "1", [], [1], (), (1,), {}, {1: 1}, [[{}]]]
+NO_CLAUSES = [odd for odd in ODD_OBJECTS if odd != []] + [[(None, "A")], ((None, "a"),), [[None, "a"]]]
 
 
 def values_of_size(kinds, kind, size):
@@ -101,6 +103,17 @@ def assert_same(case, found, expected):
     """Assert that two results are equal, True and 1 and a tuple and a list not being so."""
     case.assertEqual(found, expected)
     case.assertEqual(repr(found), repr(expected))
+
+
+def spoil(thing):
+    """Change each list and each dictionary in an object."""
+    for inner in list(thing.values()) if isinstance(thing, dict) else thing:
+        if isinstance(inner, (list, tuple, dict)):
+            spoil(inner)
+    if isinstance(thing, list):
+        thing.append(None)
+    if isinstance(thing, dict):
+        thing["spoilt"] = None
 
 
 def assert_raises(case, error, field, function, arguments):

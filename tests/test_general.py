@@ -4,11 +4,12 @@ import inspect
 import unittest
 from copy import deepcopy
 
-from firstclause import clauses, least, sheets, tables, values
+from firstclause import clauses, compare, counts, least, sheets, tables, values
 from firstclause.errors import InvalidClauses, InvalidKind, InvalidKinds, InvalidNumber, InvalidPattern
 from firstclause.errors import InvalidPosition, InvalidSize, InvalidValue
 from tests.plain import turned
-from tests.support import GARDEN, MIXED, ODD_OBJECTS, assert_each_wrong, assert_same
+from tests.support import GARDEN, MIXED, NO_CLAUSES, NO_COUNTS, ODD_OBJECTS, assert_each_wrong, assert_same
+from tests.support import spoil
 
 VALUES = {
     "is_value": ["kinds", "kind", "value"],
@@ -31,9 +32,23 @@ LEAST = {
     "greater_missing": ["kinds", "kind", "clauses", "size"],
     "greater_taken": ["kinds", "kind", "clauses", "at", "size"],
 }
+COUNTS = {
+    "count_missing": ["kinds", "kind", "clauses", "size"],
+    "count_taken": ["kinds", "kind", "clauses", "at", "size"],
+    "count_unlike": ["kinds", "kind", "one", "other", "size"],
+    "nth_missing": ["kinds", "kind", "clauses", "size", "number"],
+    "nth_taken": ["kinds", "kind", "clauses", "at", "size", "number"],
+}
+COMPARE = {
+    "parting": ["kinds", "kind", "one", "other"],
+    "swaps": ["kinds", "kind", "clauses"],
+    "spare": ["kinds", "kind", "clauses"],
+    "lean": ["kinds", "kind", "clauses"],
+}
 TABLES = {"table": ["kinds", "kind", "clauses"], "check_table": ["kinds", "kind", "clauses", "value"]}
 SHEETS = {"sheet": ["kinds", "kind", "one", "other"], "check_sheet": ["kinds", "kind", "one", "other", "value"]}
-MODULES = ((values, VALUES), (clauses, CLAUSES), (least, LEAST), (tables, TABLES), (sheets, SHEETS))
+MODULES = ((values, VALUES), (clauses, CLAUSES), (least, LEAST), (counts, COUNTS), (compare, COMPARE),
+           (tables, TABLES), (sheets, SHEETS))
 # Functions whose last argument may be any object.
 ASKED = (values.is_value, tables.check_table, sheets.check_sheet)
 LEAF = ("maker", "leaf", [("from", 2, None)])
@@ -42,8 +57,6 @@ GOOD = {
     "pattern": ("maker", "fork", [None, LEAF]), "clauses": [(LEAF, "leaf"), (None, "rest")], "at": 0,
     "one": [(LEAF, "leaf"), (None, "rest")], "other": [(("or", [LEAF]), "leaf"), (None, "rest")],
 }
-NO_COUNTS = [None, True, False, -1, -10 ** 29, "", "1", [], [1], (), (1,), {}, {1: 1}, [[{}]]]
-NO_CLAUSES = [odd for odd in ODD_OBJECTS if odd != []] + [[(None, "A")], ((None, "a"),), [[None, "a"]]]
 BAD = {
     "kinds": ODD_OBJECTS + [{"tree": ("makers", [("m", ["tree"])])}, {"tree": ("numbers", 2, 1)}],
     "kind": [odd for odd in ODD_OBJECTS if odd != "tree"] + ["fork", ["list"], {"list": 1}],
@@ -67,7 +80,8 @@ RESULTS = {
     "is_value": True, "size_of": 5, "count_values": 9, "nth_value": ("fork", ("leaf", 2), ("leaf", 1)), "place": 1,
     "fits": True, "taker": 1, "label": "rest", "least_missing": None, "least_taken": ("leaf", 2), "unreached": [],
     "total_missing": 0, "total_taken": 2, "greater_missing": None, "greater_taken": None,
-    "check_table": False, "check_sheet": False,
+    "count_missing": 0, "count_taken": 0, "count_unlike": 0, "nth_missing": None, "nth_taken": None,
+    "parting": None, "swaps": [], "spare": [], "lean": [0, 1], "check_table": False, "check_sheet": False,
 }
 
 
@@ -126,15 +140,6 @@ class Arguments(unittest.TestCase):
         self.assertIsNone(clauses.taker(kinds, "tree", listed, ("leaf", 1)))
 
 
-def spoil(value):
-    """Change each list in a value."""
-    for inner in value:
-        if isinstance(inner, (list, tuple)):
-            spoil(inner)
-    if isinstance(value, list):
-        value.append(None)
-
-
 def with_last(function, last):
     """A function that is passed an argument behind those that it gets."""
     def called(*arguments):
@@ -186,9 +191,17 @@ class Limits(unittest.TestCase):
         found = [least.least_missing(kinds, "row", some), least.greater_missing(kinds, "row", some, 12)]
         assert_same(self, found, [[], [0] * 12])
         assert_same(self, least.unreached(kinds, "row", some), [])
+        counted = [counts.count_taken(kinds, "row", some, at, 12) for at in range(3)]
+        missing = counts.count_missing(kinds, "row", some, 12)
+        assert_same(self, sum(counted) + missing, values.count_values(kinds, "row", 12))
+        assert_same(self, clauses.taker(kinds, "row", some, counts.nth_taken(kinds, "row", some, 1, 12, 10 ** 99)), 1)
+        self.assertIsNone(counts.nth_missing(kinds, "row", some, 12, missing))
         whole = some + [(None, "d")]
         self.assertIs(tables.check_table(kinds, "row", whole, tables.table(kinds, "row", whole)), True)
         other = [some[0], (("or", rows[5:8] + gaps[3:]), "b"), *whole[2:], (None, "e")]
+        self.assertIsNone(compare.parting(kinds, "row", whole, other))
+        assert_same(self, [compare.parting(kinds, "row", some, whole), compare.lean(kinds, "row", whole)],
+                    [[], [0, 1, 2, 3]])
         told = sheets.sheet(kinds, "row", whole, other)
         self.assertIs(sheets.check_sheet(kinds, "row", whole, other, told), True)
 
